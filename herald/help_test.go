@@ -15,6 +15,7 @@ const (
 	maxBrokers = 8
 	maxClients = 16
 	maxFilters = 64
+	maxInbox   = 16
 )
 
 func num(n int) api.Value { return api.Value{Kind: api.Int, N: n} }
@@ -34,6 +35,11 @@ func moreEq(n int) api.Filter { return one("size", api.MoreEq, num(n)) }
 func equal(n int) api.Filter { return one("size", api.Equal, num(n)) }
 
 func anySize() api.Filter { return one("size", api.Any, api.Value{}) }
+
+func attr(name string, v api.Value) api.Attr { return api.Attr{Name: name, Value: v} }
+
+// sized: the event that size is n.
+func sized(n int) api.Event { return api.Event{attr("size", num(n))} }
 
 func key(client, id int) api.Key { return api.Key{Client: client, Id: id} }
 
@@ -93,6 +99,29 @@ func subscribe(t *testing.T, x *herald.Tree, client, id int, f api.Filter) {
 func unsubscribe(t *testing.T, x *herald.Tree, client, id int) {
 	t.Helper()
 	isErr(t, fmt.Sprintf("P6: Unsubscribe(%d, %d)", client, id), x.Unsubscribe(client, id), api.OK)
+}
+
+func publish(t *testing.T, x *herald.Tree, client int, e api.Event) {
+	t.Helper()
+	isErr(t, fmt.Sprintf("P8: Publish(%d, %v)", client, e), x.Publish(client, e), api.OK)
+}
+
+// hears takes a client's inbox: which sizes came, and nothing lost.
+func hears(t *testing.T, x *herald.Tree, client int, wanted ...int) {
+	t.Helper()
+	hearsAndLoses(t, x, client, 0, wanted...)
+}
+
+func hearsAndLoses(t *testing.T, x *herald.Tree, client, wantedLost int, wanted ...int) {
+	t.Helper()
+	var events []api.Event
+	for _, n := range wanted {
+		events = append(events, sized(n))
+	}
+	l, lost, k := x.Inbox(client)
+	if !slices.EqualFunc(l, events, slices.Equal) || lost != wantedLost || k != api.OK {
+		t.Fatalf("P10: Inbox(%d): %v, %d lost, %d, want %v, %d lost", client, l, lost, k, events, wantedLost)
+	}
 }
 
 func isHeld(t *testing.T, x *herald.Tree, broker, from int, wanted ...api.Key) {

@@ -3,7 +3,6 @@ package herald
 import (
 	"cmp"
 	"slices"
-	"strings"
 
 	"herald/api"
 	"herald/filter"
@@ -18,6 +17,19 @@ type holding struct {
 	key    api.Key
 	filter api.Filter
 	from   int
+}
+
+// A side of a broker is a client there, or a neighbour.
+type side struct {
+	isClient bool
+	number   int
+}
+
+func (h holding) side() side {
+	if h.from == itsClients {
+		return side{isClient: true, number: h.key.Client}
+	}
+	return side{number: h.from}
 }
 
 // hold lets a broker hold a filter more, and sends what follows. Whoever is not hidden by this one is told or not as before, so
@@ -106,14 +118,4 @@ func (t *Tree) filtersOfClients() int {
 		n += len(t.keysFrom(b, itsClients))
 	}
 	return n
-}
-
-// copyOf shares nothing with f, not even the bytes of its strings.
-func copyOf(f api.Filter) api.Filter {
-	g := make(api.Filter, len(f))
-	for i, w := range f {
-		w.Name, w.Value.S = strings.Clone(w.Name), strings.Clone(w.Value.S)
-		g[i] = w
-	}
-	return g
 }

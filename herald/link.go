@@ -2,8 +2,9 @@ package herald
 
 import "herald/api"
 
-// A message tells a filter, or, without one, takes back its key.
+// A message tells an event; or a filter; or, with neither, takes back a key.
 type message struct {
+	event  api.Event
 	key    api.Key
 	filter api.Filter
 }
@@ -17,7 +18,7 @@ func (t *Tree) send(from, to int, m message) {
 func (t *Tree) takeFirst(link [2]int) message {
 	queue := t.links[link]
 	m := queue[0]
-	// The array behind the queue stays for a while: it shall not keep the filter.
+	// The array behind the queue stays for a while: it shall not keep the message.
 	queue[0] = message{}
 	t.links[link] = queue[1:]
 	return m
@@ -26,11 +27,14 @@ func (t *Tree) takeFirst(link [2]int) message {
 // arrive lets a message come to the broker at the link's end.
 func (t *Tree) arrive(link [2]int, m message) {
 	from, to := link[0], link[1]
-	if m.filter == nil {
+	switch {
+	case m.event != nil:
+		t.spread(to, side{number: from}, m.event)
+	case m.filter != nil:
+		t.hold(to, holding{key: m.key, filter: m.filter, from: from})
+	default:
 		t.drop(to, m.key)
-		return
 	}
-	t.hold(to, holding{key: m.key, filter: m.filter, from: from})
 }
 
 // firstThatWaits gives the link whose turn it is for Drain.

@@ -20,6 +20,8 @@ type model struct {
 	clients map[int]int
 	held    []map[api.Key]stock
 	waiting map[[2]int][]word
+	inbox   map[int][]api.Event
+	lost    map[int]int
 }
 
 // stock is a filter that is held, and its side (-1: a client there).
@@ -28,15 +30,16 @@ type stock struct {
 	side   int
 }
 
-// word tells a filter, or takes back a key.
+// word tells a filter, or an event, or takes back a key.
 type word struct {
-	back   bool
+	kind   string
 	key    api.Key
 	filter api.Filter
+	event  api.Event
 }
 
 func newModel(brokers int, edges [][2]int) *model {
-	m := &model{brokers, map[[2]int]bool{}, map[int]int{}, nil, map[[2]int][]word{}}
+	m := &model{brokers, map[[2]int]bool{}, map[int]int{}, nil, map[[2]int][]word{}, map[int][]api.Event{}, map[int]int{}}
 	for range brokers {
 		m.held = append(m.held, map[api.Key]stock{})
 	}
@@ -133,12 +136,12 @@ func (m *model) change(b int, how func()) {
 		is, link := m.told(b, n), [2]int{b, n}
 		for _, k := range rising(is) {
 			if _, before := was[n][k]; !before {
-				m.waiting[link] = append(m.waiting[link], word{false, k, is[k]})
+				m.waiting[link] = append(m.waiting[link], word{kind: "tell", key: k, filter: is[k]})
 			}
 		}
 		for _, k := range rising(was[n]) {
 			if _, after := is[k]; !after {
-				m.waiting[link] = append(m.waiting[link], word{true, k, nil})
+				m.waiting[link] = append(m.waiting[link], word{kind: "back", key: k})
 			}
 		}
 	}
@@ -160,14 +163,65 @@ func (m *model) Step(from, to int) api.Errno {
 	}
 	w := m.waiting[link][0]
 	m.waiting[link] = m.waiting[link][1:]
-	m.change(to, func() {
-		if w.back && m.held[to][w.key].side == from {
-			delete(m.held[to], w.key)
-		} else if !w.back {
-			m.held[to][w.key] = stock{w.filter, from}
-		}
-	})
+	switch w.kind {
+	case "tell":
+		m.change(to, func() { m.held[to][w.key] = stock{w.filter, from} })
+	case "back":
+		m.change(to, func() {
+			if m.held[to][w.key].side == from {
+				delete(m.held[to], w.key)
+			}
+		})
+	case "event":
+		m.come(to, from, nil, w.event)
+	}
 	return api.OK
+}
+
+func (m *model) Publish(client int, e api.Event) api.Errno {
+	b, there := m.clients[client]
+	switch {
+	case !there:
+		return api.ErrNone
+	case filter.CheckEvent(e) != api.OK:
+		return api.ErrEvent
+	}
+	m.come(b, -1, []int{client}, slices.Clone(e))
+	return api.OK
+}
+
+// come: P8, an event that comes from a neighbour, or from a client there, who is in by then.
+func (m *model) come(b, from int, by []int, e api.Event) {
+	clients, sides := map[int]bool{}, map[int]bool{}
+	for k, s := range m.held[b] {
+		if l, _ := filter.Match(e, s.filter); len(l) == 1 {
+			sides[s.side] = true
+			clients[k.Client] = clients[k.Client] || s.side == -1
+		}
+	}
+	for c := range m.clients {
+		switch {
+		case !clients[c] || slices.Contains(by, c):
+		case len(m.inbox[c]) < maxInbox:
+			m.inbox[c] = append(m.inbox[c], e)
+		default:
+			m.lost[c]++
+		}
+	}
+	for n := range m.brokers {
+		if n != from && sides[n] {
+			m.waiting[[2]int{b, n}] = append(m.waiting[[2]int{b, n}], word{kind: "event", event: e})
+		}
+	}
+}
+
+func (m *model) Inbox(client int) ([]api.Event, int, api.Errno) {
+	if _, there := m.clients[client]; !there {
+		return nil, 0, api.ErrNone
+	}
+	l, lost := m.inbox[client], m.lost[client]
+	m.inbox[client], m.lost[client] = nil, 0
+	return l, lost, api.OK
 }
 
 func (m *model) Drain() int {
@@ -214,6 +268,15 @@ func (p *player) client() int {
 	return l[p.r.Intn(len(l))]
 }
 
+// known gives a client that is there, most of the time.
+func (p *player) known() int {
+	l := slices.Sorted(maps.Keys(p.model.clients))
+	if len(l) == 0 || p.r.Intn(4) == 0 {
+		return p.client()
+	}
+	return l[p.r.Intn(len(l))]
+}
+
 func (p *player) id() int {
 	l := []int{-1 << 63, 1<<63 - 1, -1, 0, 1, 2, 3}
 	return l[p.r.Intn(len(l))]
@@ -250,14 +313,65 @@ func (p *player) filter() api.Filter {
 	return f
 }
 
+// event gives events of which many match many of these filters; some are none.
+func (p *player) event() api.Event {
+	e := sized(p.r.Intn(5))
+	switch p.r.Intn(12) {
+	case 0:
+		return nil
+	case 1:
+		return append(e, attr("name", text("ab")))
+	case 2:
+		return api.Event{attr("name", text("ab"))}
+	case 3, 4, 5:
+		return api.Event{attr("name", text("cab"[p.r.Intn(3):])), e[0]}
+	}
+	return e
+}
+
+// taken is an answer of Inbox.
+type taken struct {
+	events []api.Event
+	lost   int
+	errno  api.Errno
+}
+
+func take(x interface {
+	Inbox(int) ([]api.Event, int, api.Errno)
+}, client int) taken {
+	l, lost, k := x.Inbox(client)
+	if len(l) == 0 {
+		l = nil
+	}
+	return taken{l, lost, k}
+}
+
+// publish makes the call once or many times, so that inboxes fill.
+func (p *player) publish(client int, e api.Event) (string, any, any) {
+	times := 1
+	if p.r.Intn(10) == 0 {
+		times = 1 + p.r.Intn(maxInbox)
+	}
+	got, wanted := p.tree.Publish(client, e), p.model.Publish(client, e)
+	for i := 1; i < times && got == wanted; i++ {
+		got, wanted = p.tree.Publish(client, e), p.model.Publish(client, e)
+	}
+	return "Publish", got, wanted
+}
+
 func (p *player) turn() (string, any, any) {
 	b, c := p.r.Intn(p.model.brokers+2)-1, p.r.Intn(p.model.brokers+2)-1
-	client, id, f := p.client(), p.id(), p.filter()
-	switch n := p.r.Intn(100); {
-	case n < 8:
+	client, id, f := p.known(), p.id(), p.filter()
+	switch n := p.r.Intn(130); {
+	case n < 10:
+		client = p.client()
 		return "Attach", p.tree.Attach(client, b), p.model.Attach(client, b)
-	case n < 40:
+	case n < 33:
 		return "Subscribe", p.tree.Subscribe(client, id, f), p.model.Subscribe(client, id, f)
+	case n < 40:
+		return "Inbox", take(p.tree, client), take(p.model, client)
+	case n >= 100:
+		return p.publish(client, p.event())
 	case n < 60:
 		if l := p.subscribed(); len(l) > 0 && p.r.Intn(2) == 0 {
 			k := l[p.r.Intn(len(l))]
@@ -277,17 +391,35 @@ func (p *player) turn() (string, any, any) {
 func (p *player) play(t *testing.T, turns int) {
 	for i := range turns {
 		what, got, wanted := p.turn()
-		if got != wanted {
+		if !reflect.DeepEqual(got, wanted) {
 			t.Fatalf("turn %d, %s: %v, want %v", i, what, got, wanted)
 		}
 		if x, y := lookAt(p.tree), lookAt(p.model); !reflect.DeepEqual(x, y) {
 			t.Fatalf("turn %d, after %s: the tree shows %v, want %v", i, what, x, y)
 		}
-		if k, is := got.(api.Errno); is {
-			what += " " + k.Error()
-		}
-		p.tally[what]++
+		p.count(what, got)
 	}
+	p.model.Drain()
+	p.tree.Drain()
+	for c := range p.model.clients {
+		got, wanted := take(p.tree, c), take(p.model, c)
+		if !reflect.DeepEqual(got, wanted) {
+			t.Fatalf("at the end, Inbox(%d): %v, want %v", c, got, wanted)
+		}
+		p.count("Inbox", got)
+	}
+}
+
+func (p *player) count(what string, answer any) {
+	switch a := answer.(type) {
+	case api.Errno:
+		what += " " + a.Error()
+	case taken:
+		what += " " + a.errno.Error()
+		p.tally["heard"] += len(a.events)
+		p.tally["lost"] += a.lost
+	}
+	p.tally[what]++
 }
 
 // randomTree gives edges of a tree, each broker with one of those ahead of it, under mixed numbers and turned either way.
@@ -316,12 +448,14 @@ func TestRandomPlay(t *testing.T) {
 			brokers, edges = 8, both()
 		}
 		p := &player{r: r, tree: made(t, brokers, edges), model: newModel(brokers, edges), tally: tally}
-		p.play(t, 300)
+		p.play(t, 350)
 	}
 	for what, least := range map[string]int{
 		"Attach error 0": 300, "Attach error 5": 50, "Attach error 6": 50, "Attach error 7": 1,
 		"Subscribe error 0": 500, "Subscribe error 2": 100, "Subscribe error 5": 100, "Subscribe error 6": 50,
 		"Unsubscribe error 0": 300, "Unsubscribe error 5": 500, "Step error 0": 500, "Step error 5": 500, "Drain": 100,
+		"Publish error 0": 500, "Publish error 1": 100, "Publish error 5": 100, "Inbox error 0": 500, "Inbox error 5": 100,
+		"heard": 1000, "lost": 100,
 	} {
 		if tally[what] < least {
 			t.Errorf("the play has too little of %s: %d", what, tally[what])
